@@ -4,7 +4,9 @@ package fascine
 import (
 	"fascine/api"
 	"fascine/cut"
+	"fascine/fault"
 	"fascine/field"
+	"fascine/letters"
 	"fascine/wire"
 )
 
@@ -63,10 +65,27 @@ func appendPackets(packets [][]byte, head wire.Head, block []byte) [][]byte {
 }
 
 // Text of a packet (P5).
-func Text(packet []byte) (string, api.Errno) { return "", api.OK }
+func Text(packet []byte) (text string, e api.Errno) {
+	defer func() {
+		if r := recover(); r != nil {
+			text, e = "", fault.Errno(r)
+		}
+	}()
+	wire.Unpack(packet)
+	return letters.Write(packet), api.OK
+}
 
 // Packet of a text (P5).
-func Packet(text string) ([]byte, api.Errno) { return nil, api.OK }
+func Packet(text string) (packet []byte, e api.Errno) {
+	defer func() {
+		if r := recover(); r != nil {
+			packet, e = nil, fault.Errno(r)
+		}
+	}()
+	packet = letters.Read(text)
+	wire.Unpack(packet)
+	return packet, api.OK
+}
 
 // New makes a listener (P6).
 func New() *Listener { return nil }

@@ -1,7 +1,11 @@
-// Package wire lays packets out as bytes.
+// Package wire lays packets out as bytes, and tells whether bytes are a packet.
 package wire
 
-import "fascine/api"
+import (
+	"fascine/api"
+	"fascine/cut"
+	"fascine/fault"
+)
 
 const (
 	mark     = 70
@@ -31,3 +35,30 @@ func Pack(h Head, piece []byte) []byte {
 }
 
 func appendPair(packet []byte, n int) []byte { return append(packet, byte(n>>8), byte(n)) }
+
+// Unpack tells a packet's head and its piece, which still is the packet's own memory; it gives up with ErrPiece, if
+// that is no packet.
+func Unpack(packet []byte) (Head, []byte) {
+	need(len(packet) > headSize && packet[0] == mark)
+	h := readHead(packet)
+	blocks, ok := cut.Blocks(h.Length, h.Plan)
+	need(ok)
+	need(h.Block < len(blocks))
+	need(h.Piece < blocks[h.Block]+h.Plan.Spare)
+	need(len(packet) == headSize+h.Plan.Size)
+	return h, packet[headSize:]
+}
+
+func need(well bool) { fault.Unless(well, api.ErrPiece) }
+
+func readHead(packet []byte) Head {
+	return Head{
+		Id:     pair(packet[1], packet[2]),
+		Length: pair(packet[3], packet[4]),
+		Plan:   api.Plan{Size: int(packet[5]), Most: int(packet[6]), Spare: int(packet[7])},
+		Block:  int(packet[8]),
+		Piece:  int(packet[9]),
+	}
+}
+
+func pair(high, low byte) int { return int(high)<<8 | int(low) }
