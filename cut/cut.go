@@ -75,17 +75,11 @@ func split(block []byte, size int) [][]byte {
 func spare(own [][]byte, j, size int) []byte {
 	sum := make([]byte, size)
 	for i, piece := range own {
-		addTimes(sum, piece, weight(j, i))
+		field.AddTimes(sum, piece, Weight(j, i))
 	}
 	return sum
 }
 
-// weight of a block's own piece i in its spare piece j. j and i are below 32, and 255 less j is above that, so the
+// Weight of a block's own piece i in its spare piece j. j and i are below 32, and 255 less j is above that, so the
 // two are never the same, and there is an inverse.
-func weight(j, i int) int { return field.Inverse(field.Add(field.Top-j, i)) }
-
-func addTimes(sum, piece []byte, times int) {
-	for at, b := range piece {
-		sum[at] = byte(field.Add(int(sum[at]), field.Mul(int(b), times)))
-	}
-}
+func Weight(j, i int) int { return field.Inverse(field.Add(field.Top-j, i)) }

@@ -29,13 +29,13 @@ func TestShareIsEven(t *testing.T) {
 func TestWeightsOfAllSparePieces(t *testing.T) {
 	for j := range api.MaxSpare {
 		for i := range api.MaxMost {
-			if w := weight(j, i); w < 1 || w > 255 {
-				t.Errorf("weight(%d, %d) = %d", j, i, w)
+			if w := Weight(j, i); w < 1 || w > 255 {
+				t.Errorf("Weight(%d, %d) = %d", j, i, w)
 			}
 		}
 	}
-	if weight(0, 0) != 253 {
-		t.Errorf("weight(0, 0) = %d", weight(0, 0))
+	if Weight(0, 0) != 253 {
+		t.Errorf("Weight(0, 0) = %d", Weight(0, 0))
 	}
 }
 

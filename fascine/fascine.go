@@ -2,16 +2,22 @@
 package fascine
 
 import (
+	"strings"
+
 	"fascine/api"
 	"fascine/cut"
 	"fascine/fault"
 	"fascine/field"
+	"fascine/heard"
 	"fascine/letters"
+	"fascine/mend"
 	"fascine/wire"
 )
 
 // Listener puts objects together.
-type Listener struct{}
+type Listener struct {
+	objects heard.Objects
+}
 
 // Mul is the product in the field (P3).
 func Mul(a, b int) (int, api.Errno) {
@@ -88,19 +94,69 @@ func Packet(text string) (packet []byte, e api.Errno) {
 }
 
 // New makes a listener (P6).
-func New() *Listener { return nil }
+func New() *Listener { return &Listener{objects: heard.Objects{}} }
 
 // Hear some packets (P6).
-func (l *Listener) Hear(packets ...[]byte) (int, api.Errno) { return 0, api.OK }
+func (l *Listener) Hear(packets ...[]byte) (count int, e api.Errno) {
+	// What was counted ahead of the error is answered beside it.
+	defer func() {
+		if r := recover(); r != nil {
+			e = fault.Errno(r)
+		}
+	}()
+	for _, packet := range packets {
+		if l.objects.Add(wire.Unpack(packet)) {
+			count++
+		}
+	}
+	return count, api.OK
+}
 
 // Read some packets' texts (P7).
-func (l *Listener) Read(text string) (int, int, api.Errno) { return 0, 0, api.OK }
+func (l *Listener) Read(text string) (int, int, api.Errno) {
+	count := 0
+	for number, line := range strings.Split(text, "\n") {
+		if strings.Trim(line, " ") == "" {
+			continue
+		}
+		more, e := l.readLine(line)
+		count += more
+		if e != api.OK {
+			return count, number, e
+		}
+	}
+	return count, 0, api.OK
+}
+
+func (l *Listener) readLine(line string) (int, api.Errno) {
+	packet, e := Packet(line)
+	if e != api.OK {
+		return 0, e
+	}
+	return l.Hear(packet)
+}
 
 // Ids of objects that were heard of (P8).
-func (l *Listener) Ids() []int { return nil }
+func (l *Listener) Ids() []int { return l.objects.Ids() }
 
 // Look tells how an object stands (P8).
-func (l *Listener) Look(id int) (api.Look, api.Errno) { return api.Look{}, api.OK }
+func (l *Listener) Look(id int) (api.Look, api.Errno) {
+	o := l.objects[id]
+	if o == nil {
+		return api.Look{}, api.ErrNone
+	}
+	return o.Look(), api.OK
+}
 
 // Object puts one together (P9).
-func (l *Listener) Object(id int) ([]byte, api.Errno) { return nil, api.OK }
+func (l *Listener) Object(id int) ([]byte, api.Errno) {
+	o := l.objects[id]
+	if o == nil {
+		return nil, api.ErrNone
+	}
+	filled, whole := mend.Blocks(o.Blocks, o.Plan.Spare)
+	if !whole {
+		return nil, api.ErrMore
+	}
+	return filled[:o.Length], api.OK
+}

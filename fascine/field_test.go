@@ -23,15 +23,21 @@ func product(a, b int) int {
 	return whole
 }
 
-// inverse is looked for, one number after the other.
-func inverse(a int) int {
-	for b := range 256 {
-		if product(a, b) == 1 {
-			return b
+// inverses by their numbers, each looked for among all products, once for all tests.
+var inverses = findInverses()
+
+func findInverses() (all [256]int) {
+	for a := range all {
+		for b := range 256 {
+			if product(a, b) == 1 {
+				all[a] = b
+			}
 		}
 	}
-	return -1
+	return all
 }
+
+func inverse(a int) int { return inverses[a] }
 
 func TestP3Examples(t *testing.T) {
 	for _, c := range [][3]int{

@@ -44,3 +44,10 @@ func Inverse(a int) int {
 	}
 	return inverse
 }
+
+// AddTimes adds that many times each byte of a row to the byte at the same place of the sum, which is as long.
+func AddTimes(sum, row []byte, times int) {
+	for at, b := range row {
+		sum[at] = byte(Add(int(sum[at]), Mul(int(b), times)))
+	}
+}

@@ -33,3 +33,16 @@ func TestInverse(t *testing.T) {
 		}
 	}
 }
+
+func TestAddTimes(t *testing.T) {
+	for times := range 256 {
+		sum, row := []byte{0, 1, 200, 9}, []byte{5, 0, 255}
+		AddTimes(sum, row, times)
+		for at, want := range []int{Mul(5, times), 1, 200 ^ Mul(255, times), 9} {
+			if int(sum[at]) != want {
+				t.Errorf("%d times: place %d is %d, want %d", times, at, sum[at], want)
+			}
+		}
+	}
+	AddTimes(nil, nil, 1)
+}
